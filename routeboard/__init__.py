@@ -1,0 +1,1 @@
+"""Routeboard: addresses led by tables of patterns."""
