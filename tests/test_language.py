@@ -1,4 +1,4 @@
-"""The package's files keep to the rules L1 to L28 of LANGUAGE.md, as far as they can be read off the code."""
+"""The package's files keep to those rules of LANGUAGE.md that are checked here: not all; README.md says which."""
 
 import ast
 import builtins
