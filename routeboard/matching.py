@@ -26,14 +26,14 @@ def lets_by(part, word):
     return True
 
 
-def has_fitting_length(pattern, address):
+def has_fitting_length(pattern, many):
     if has_rest(pattern):
-        return len(address) >= len(pattern) - 1
-    return len(address) == len(pattern)
+        return many >= len(pattern) - 1
+    return many == len(pattern)
 
 
 def does_match(pattern, address):
-    if not has_fitting_length(pattern, address):
+    if not has_fitting_length(pattern, len(address)):
         return False
     # A rest lets all words by, so it does no harm that it meets the first of its words here, or none.
     return all([lets_by(part, word) for part, word in zip(pattern, address)])
