@@ -82,23 +82,30 @@ def values_by_name(pattern, some):
     return values
 
 
-def words_of_hole(hole, value):
-    if not can_hold(hole, value):
-        name = hole[1]
-        raise BadValues(f"the hole {name!r} can't have this value")
-    if hole[0] == "rest":
-        return list(value)
-    return [str(value)]
+def check_values(pattern, values):
+    for part in pattern:
+        if is_hole(part) and not can_hold(part, values[part[1]]):
+            name = part[1]
+            raise BadValues(f"the hole {name!r} can't have this value")
+
+
+def words_with(pattern, values):
+    """The words of the pattern, with the values that a dict has by the names of the holes in their stead."""
+    words = []
+    for part in pattern:
+        if not is_hole(part):
+            words.append(part[1])
+        elif part[0] == "rest":
+            words.extend(values[part[1]])
+        else:
+            words.append(str(values[part[1]]))
+    return words
 
 
 def built(pattern, some):
     values = values_by_name(pattern, some)
-    words = []
-    for part in pattern:
-        if is_hole(part):
-            words.extend(words_of_hole(part, values[part[1]]))
-        else:
-            words.append(part[1])
+    check_values(pattern, values)
+    words = words_with(pattern, values)
     if len(words) > MOST_WORDS:
         raise BadValues("the address would have too many words")
     return tuple(words)

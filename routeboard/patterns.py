@@ -71,6 +71,14 @@ def hole_names(pattern):
     return [part[1] for part in pattern if is_hole(part)]
 
 
+def hole_named(pattern, name):
+    """The hole of this name; None, where there is none."""
+    for part in pattern:
+        if is_hole(part) and part[1] == name:
+            return part
+    return None
+
+
 def is_pattern(thing):
     if not is_tuple_of(thing, 0, MOST_PARTS) or not all([is_part(part) for part in thing]):
         return False

@@ -1,9 +1,11 @@
-"""What is told, held against plain looks at all addresses: for the tests of tables and of comparing."""
+"""For several tests: any things, and what is told held against plain looks at all addresses."""
 
 import functools
 import itertools
 import random
+import unittest
 
+from routeboard.errors import RouteError
 from routeboard.matching import does_match, lets_by
 from routeboard.patterns import is_address
 
@@ -16,6 +18,45 @@ LABELS = ("h", "c", "a", "f", "long", "b", "e", "d")
 # As long as words and names can be, and as many as a "one" can have.
 LONG_WORDS = ("12345678", "99999999", "abcdefgh", "z-z-z-z-", "00000000", "-0000001")
 LONG_NAMES = ("aaaa", "bbbb", "cccc", "dddd", "eeee", "ffff")
+
+
+def nested(inner, depth, as_list):
+    for _ in range(depth):
+        inner = [inner] if as_list else (inner,)
+    return inner
+
+
+# Things that are no address, no pattern and no table.
+ODD_THINGS = [
+    None, True, False, 0, 1, -1, 10 ** 50, "", "a", "word", "/a",
+    [], [[]], [()], ((),), ([],), [None], (None,), (True,), (False,), (0,), (1,), ("",),
+    ["a"], [("word", "a")], [("a", ())], (("a",),), ((("word", "a"),),), ((("a", ()),),), ([("word", "a")],),
+    (("word", "a"), None), (("word", "a"), 1), (("word", "a"), "a"), (("a", ()), None), (("a", ()), True),
+    ("a", None), ("a", True), ("a", 1), ("a", ["a"]), ("a", ("a",)), (("any", "a"), ("a", ())),
+    nested(None, 10, True), nested(None, 10, False), nested("a", 10, True), nested("a", 10, False),
+    nested((), 10, False), nested([], 10, True), nested(("word", "a"), 9, False),
+]
+
+
+class Asking(unittest.TestCase):
+    # assertIs: the answer is True or False itself, not something that counts as such.
+    def yes(self, ask, *things):
+        for thing in things:
+            with self.subTest(ask=ask.__name__, thing=thing):
+                self.assertIs(ask(thing), True)
+
+    def no(self, ask, *things):
+        for thing in things:
+            with self.subTest(ask=ask.__name__, thing=thing):
+                self.assertIs(ask(thing), False)
+
+
+def refuses(case, refusal, ask, *handed):
+    """Just this refusal, which is a RouteError and a ValueError and none of the others."""
+    with case.assertRaises(RouteError) as caught:
+        ask(*handed)
+    case.assertIs(type(caught.exception), refusal)
+    case.assertIsInstance(caught.exception, ValueError)
 
 
 def part_of(shape, name):

@@ -29,6 +29,10 @@ NODES = """Module FunctionDef ClassDef Return Assign AugAssign For While If Rais
     keyword alias""".split()
 
 
+VALUES_LIKE_METHODS = "count index title find get join lower upper split strip copy add".split()
+OF_PYTHON = {name for kind in (str, int, list, tuple, dict, set, bytes) for name in dir(kind)} | {"args"}
+
+
 def each_file():
     for path in FILES:
         text = path.read_text(encoding="utf-8")
@@ -139,6 +143,30 @@ class TheRules(unittest.TestCase):
                 self.assertLessEqual(len(node.bases), 1)
                 for part in node.body:
                     self.assertIsInstance(part, (ast.FunctionDef, ast.Pass))
+        self.hold_to(rule)
+
+    def test_methods_and_values_of_objects(self):
+        methods, values = [], []
+        for _, _, tree in each_file():
+            for top in tree.body:
+                if isinstance(top, ast.ClassDef):
+                    own = [part.name for part in top.body if isinstance(part, ast.FunctionDef)]
+                    self.assertEqual(len(own), len(set(own)), top.name)
+                    methods.extend(own)
+            values.extend(node.attr for node in ast.walk(tree)
+                          if isinstance(node, ast.Attribute) and isinstance(node.ctx, ast.Store))
+        self.assertEqual(set(methods) & set(values), set())
+        for name in set(methods) - set(DUNDERS):
+            self.assertFalse(name in OF_PYTHON and name not in METHODS + ["add", "discard"], name)
+        for name in values:
+            self.assertFalse(name in OF_PYTHON and name not in VALUES_LIKE_METHODS, name)
+
+    def test_init_gives_nothing_back(self):
+        def rule(node):
+            if isinstance(node, ast.FunctionDef) and node.name == "__init__":
+                for part in ast.walk(node):
+                    if isinstance(part, ast.Return):
+                        self.assertIsNone(part.value)
         self.hold_to(rule)
 
     def test_statements(self):

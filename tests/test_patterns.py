@@ -3,40 +3,10 @@
 import copy
 import unittest
 
+from looking import ODD_THINGS, Asking
 from routeboard.patterns import is_address, is_pattern, is_table
 
 ASKED = (is_address, is_pattern, is_table)
-
-
-def nested(inner, depth, as_list):
-    for _ in range(depth):
-        inner = [inner] if as_list else (inner,)
-    return inner
-
-
-# Things that are no address, no pattern and no table.
-ODD_THINGS = [
-    None, True, False, 0, 1, -1, 10 ** 50, "", "a", "word", "/a",
-    [], [[]], [()], ((),), ([],), [None], (None,), (True,), (False,), (0,), (1,), ("",),
-    ["a"], [("word", "a")], [("a", ())], (("a",),), ((("word", "a"),),), ((("a", ()),),), ([("word", "a")],),
-    (("word", "a"), None), (("word", "a"), 1), (("word", "a"), "a"), (("a", ()), None), (("a", ()), True),
-    ("a", None), ("a", True), ("a", 1), ("a", ["a"]), ("a", ("a",)), (("any", "a"), ("a", ())),
-    nested(None, 10, True), nested(None, 10, False), nested("a", 10, True), nested("a", 10, False),
-    nested((), 10, False), nested([], 10, True), nested(("word", "a"), 9, False),
-]
-
-
-class Asking(unittest.TestCase):
-    # assertIs: the answer is True or False itself, not something that counts as such.
-    def yes(self, ask, *things):
-        for thing in things:
-            with self.subTest(ask=ask.__name__, thing=thing):
-                self.assertIs(ask(thing), True)
-
-    def no(self, ask, *things):
-        for thing in things:
-            with self.subTest(ask=ask.__name__, thing=thing):
-                self.assertIs(ask(thing), False)
 
 
 class Words(Asking):
