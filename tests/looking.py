@@ -1,13 +1,15 @@
-"""For several tests: any things, and what is told held against plain looks at all addresses."""
+"""For several tests: any things, plain looks at all addresses, and the forms of texts."""
 
 import functools
 import itertools
 import random
+import re
 import unittest
 
 from routeboard.errors import RouteError
 from routeboard.matching import does_match, lets_by
 from routeboard.patterns import is_address
+from routeboard.sites import Site
 
 # Words that tell the small patterns apart: those that they name, a number and a word that none names.
 WORDS = ("a", "7", "0", "5", "x")
@@ -165,3 +167,75 @@ def hold(case, told, seen, is_so):
     case.assertTrue(is_address(told), told)
     case.assertTrue(is_so(told), told)
     case.assertEqual(len(told), len(seen))
+
+
+def site_of(**tables):
+    site = Site()
+    for name, table in tables.items():
+        site.put(name, table)
+    return site
+
+
+def tables_of(site):
+    return {name: site.table_of(name) for name in site.names()}
+
+
+WORD, NAME = "[a-z0-9-]{1,8}", "[a-z]{1,4}"
+PART = f"{WORD}|[:#]{NAME}|{NAME}=(?:{WORD}[|]){{0,3}}{WORD}"
+SIGNS = [chr(number) for number in range(32, 127)] + ["\n"]
+
+
+def is_writing(text):
+    """Whether a text is the writing of a pattern, by its form alone; likewise those behind."""
+    if text == "/":
+        return True
+    if not re.fullmatch(f"(?:/(?:{PART})){{0,6}}(?:/[*]{NAME})?", text) or not 1 <= text.count("/") <= 6:
+        return False
+    names, parts = [], text[1:].split("/")
+    for part in parts:
+        if "=" in part:
+            words = part.split("=")[1].split("|")
+            if words != sorted(set(words)):
+                return False
+        if part[0] in ":#*" or "=" in part:
+            names.append(part.split("=")[0].strip(":#*"))
+    return len(names) == len(set(names))
+
+
+def is_address_writing(text):
+    return text == "/" or re.fullmatch(f"(?:/{WORD}){{1,8}}", text) is not None
+
+
+def is_table_writing(text):
+    if not re.fullmatch(f"(?:{NAME} [^ \n]+\n){{0,8}}", text):
+        return False
+    rows = [line.split(" ") for line in text.split("\n")[:-1]]
+    return len({row[0] for row in rows}) == len(rows) and all(is_writing(row[1]) for row in rows)
+
+
+def is_site_writing(text):
+    lines = text.split("\n")
+    if lines.pop() != "":
+        return False
+    tables = []
+    for line in lines:
+        if re.fullmatch(f"\\[{NAME}\\]", line):
+            tables.append([line[1:-1], ""])
+        elif not tables:
+            return False
+        else:
+            tables[-1][1] += line + "\n"
+    names = [name for name, _ in tables]
+    return names == sorted(set(names)) and all(is_table_writing(rows) for _, rows in tables)
+
+
+def changes(text, signs):
+    """All texts with a sign put in, taken out or exchanged, a stretch taken out, repeated or turned."""
+    for at in range(len(text) + 1):
+        for sign in signs:
+            yield text[:at] + sign + text[at:]
+            yield text[:at] + sign + text[at + 1:]
+    for start, end in itertools.combinations(range(len(text) + 1), 2):
+        yield text[:start] + text[end:]
+        yield text[:end] + text[start:]
+        yield text[:start] + text[start:end][::-1] + text[end:]
